@@ -1,0 +1,1 @@
+"""Shapethin: pictures of cells on a floor without end."""

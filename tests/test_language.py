@@ -1,0 +1,148 @@
+"""Holds the package's files to those rules of the language (L1 to L28) that can be seen in a file alone."""
+
+import ast
+import builtins
+import pathlib
+import re
+import unittest
+
+PACKAGE = pathlib.Path(__file__).resolve().parent.parent / "shapethin"
+
+OWN_NAMES = set("""len range enumerate zip min max sum abs sorted reversed int str bool list tuple dict set frozenset
+    isinstance ord repr any all divmod Exception ValueError TypeError KeyError IndexError LookupError
+    ZeroDivisionError ArithmeticError OverflowError RuntimeError NotImplementedError AttributeError
+    StopIteration""".split())
+
+METHODS = set("""append clear copy count endswith extend find get index insert isalnum isalpha isdigit islower isspace
+    isupper items join keys ljust lower lstrip partition pop remove replace reverse rfind rjust rpartition rsplit
+    rstrip setdefault split splitlines startswith strip update upper values zfill bit_length""".split())
+
+UNUSED_WORDS = set("""type typing typing_extensions enum Enum IntEnum StrEnum Flag IntFlag Generic Protocol ABC ABCMeta
+    namedtuple NamedTuple TypedDict TYPE_CHECKING abstractmethod""".split())
+
+UNUSED_PARTS = ("dataclass", "overload", "contextmanager")
+
+UNUSED_NAMES = set("""register mro elements open input version_info with_traceback add_note chr format
+    format_map sys os super print""".split())
+
+SPECIAL_METHODS = {"__init__", "__eq__", "__repr__", "__str__", "__len__"}
+
+NODES = (
+    ast.Module, ast.FunctionDef, ast.ClassDef, ast.ImportFrom, ast.alias, ast.arguments, ast.arg, ast.Lambda,
+    ast.Assign, ast.AugAssign, ast.If, ast.While, ast.For, ast.Return, ast.Break, ast.Continue, ast.Pass, ast.Raise,
+    ast.Try, ast.ExceptHandler, ast.Expr, ast.Call, ast.keyword, ast.Attribute, ast.Subscript, ast.Slice, ast.Name,
+    ast.Constant, ast.List, ast.Tuple, ast.Dict, ast.BinOp, ast.UnaryOp, ast.BoolOp, ast.Compare, ast.IfExp,
+    ast.ListComp, ast.comprehension, ast.JoinedStr, ast.FormattedValue, ast.expr_context, ast.operator, ast.unaryop,
+    ast.boolop, ast.cmpop)
+
+
+def sources():
+    return sorted(PACKAGE.rglob("*.py"))
+
+
+def faults_of_text(text):
+    for number, line in enumerate(text.split("\n"), start=1):
+        if len(line) > 120:
+            yield number, "L10 a line of more than 120 signs"
+        if any(not " " <= sign <= "~" for sign in line):
+            yield number, "L14 a sign that is not from the blank to the tilde"
+        for word in re.findall(r"\w+", line):
+            if word in UNUSED_WORDS or any(part in word for part in UNUSED_PARTS):
+                yield number, f"L17 the word {word}"
+    if text.count("\n") > 400:
+        yield 400, "L10 a file of more than 400 lines"
+
+
+def bound_names(node):
+    if isinstance(node, (ast.FunctionDef, ast.ClassDef)):
+        return [node.name]
+    if isinstance(node, ast.arg):
+        return [node.arg]
+    if isinstance(node, ast.Name) and isinstance(node.ctx, ast.Store):
+        return [node.id]
+    return []
+
+
+def faults_of_names(node, methods):
+    for name in bound_names(node):
+        if name.startswith("_") and name not in SPECIAL_METHODS:
+            yield "L12 a name that begins with an underscore"
+        if node not in methods and hasattr(builtins, name):
+            yield f"L15 {name} is a name of Python's own"
+    if isinstance(node, ast.Name):
+        if node.id in UNUSED_NAMES or hasattr(builtins, node.id) and node.id not in OWN_NAMES:
+            yield f"L8 the name {node.id}"
+    if isinstance(node, ast.Attribute) and node.attr in UNUSED_NAMES:
+        yield f"L17 the name {node.attr}"
+
+
+def faults_of_forms(node):
+    if not isinstance(node, NODES):
+        yield f"L6 or L7 {type(node).__name__}"
+    if isinstance(node, ast.FunctionDef):
+        if node.end_lineno - node.lineno >= 40:
+            yield "L10 a function of more than 40 lines"
+        if node.decorator_list or node.args.vararg or node.args.kwarg or node.args.kwonlyargs:
+            yield "L4 a decorator or a starred parameter"
+    if isinstance(node, ast.ClassDef) and (node.decorator_list or len(node.bases) > 1 or node.keywords):
+        yield "L5 a decorator or more than one base"
+    if isinstance(node, ast.ImportFrom) and (node.level or not node.module.startswith("shapethin.")):
+        yield "L2 an import from outside the package"
+    if isinstance(node, (ast.For, ast.While)) and node.orelse or isinstance(node, ast.Try) and node.finalbody:
+        yield "L6 an else behind a loop, or a finally"
+    if isinstance(node, ast.Assign) and len(node.targets) > 1:
+        yield "L6 more than one target"
+    if isinstance(node, ast.ListComp) and (len(node.generators) > 1 or len(node.generators[0].ifs) > 1):
+        yield "L7 a comprehension with more than one for or if"
+    if isinstance(node, (ast.Div, ast.MatMult)) or isinstance(node, ast.Constant) and type(node.value) in (
+            float, bytes, complex):
+        yield "L7 a division or a value that is no whole number"
+    if isinstance(node, ast.Compare) and any(isinstance(op, (ast.Is, ast.IsNot)) for op in node.ops):
+        if not all(isinstance(side, ast.Constant) and side.value in (None, True, False) for side in node.comparators):
+            yield "L20 is beside something else than None, True, False"
+    if isinstance(node, ast.Call) and isinstance(node.func, ast.Attribute) and node.func.attr not in METHODS:
+        yield f"L25 the method {node.func.attr}"
+
+
+def faults_of_tree(tree):
+    methods = [part for node in ast.walk(tree) if isinstance(node, ast.ClassDef) for part in node.body]
+    for node in ast.walk(tree):
+        for fault in list(faults_of_forms(node)) + list(faults_of_names(node, methods)):
+            yield getattr(node, "lineno", 0), fault
+    tops = [name for node in tree.body for name in bound_names(node)]
+    tops += [target.id for node in tree.body if isinstance(node, ast.Assign) for target in node.targets]
+    if len(tops) != len(set(tops)):
+        yield 0, "L15 a name bound twice at the file's top"
+
+
+class Language(unittest.TestCase):
+    def test_files(self):
+        found = [path.name for path in PACKAGE.rglob("*") if path.is_file() and "__pycache__" not in path.parts]
+        self.assertIn("__init__.py", found)
+        for name in found:
+            self.assertRegex(name, r"^([a-z][a-z0-9_]*|__init__)\.py$")
+            self.assertNotRegex(name, r"^(tests?|testing|test_.*|site|conftest|sitecustomize|usercustomize)\.py$")
+            self.assertFalse(name != "__init__.py" and hasattr(builtins, name[:-3]), name)
+
+    def test_no_file_leaves_the_language(self):
+        faults = []
+        for path in sources():
+            text = path.read_text(encoding="utf-8")
+            for line, fault in list(faults_of_text(text)) + list(faults_of_tree(ast.parse(text))):
+                faults.append(f"{path.name}:{line}: {fault}")
+        self.assertEqual(faults, [])
+
+    def test_faults_are_seen(self):
+        wrong = ["x = 1 / 2", "x = 1.5", "import os", "from os import path", "x = {1, 2}", "x = [y for z in a for y in z]",
+                 "def f(*a):\n    pass", "def f(a):\n    a.sort()", "a = b = 1", "a = 1\na = 2", "def f(min):\n    pass",
+                 "with a:\n    pass", "x = _y = 2", "def f(a):\n    return a is 3", "x = open(3)", "_x = 1"]
+        for text in wrong:
+            with self.subTest(text=text):
+                self.assertNotEqual(list(faults_of_tree(ast.parse(text))), [])
+        for text in ["x = 'type'", "# an enum", "\tx = 1", "x = 1" + " " * 120, "# caf\u00e9", "my_dataclass_x = 1"]:
+            with self.subTest(text=text):
+                self.assertNotEqual(list(faults_of_text(text)), [])
+
+
+if __name__ == "__main__":
+    unittest.main()
