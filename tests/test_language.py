@@ -76,6 +76,16 @@ def faults_of_names(node, methods):
         yield f"L17 the name {node.attr}"
 
 
+def own_methods(trees):
+    classes = [node for tree in trees for node in ast.walk(tree) if isinstance(node, ast.ClassDef)]
+    return {part.name for node in classes for part in node.body if isinstance(part, ast.FunctionDef)}
+
+
+def own_values(trees):
+    return {node.attr for tree in trees for node in ast.walk(tree)
+            if isinstance(node, ast.Attribute) and isinstance(node.ctx, ast.Store)}
+
+
 def faults_of_forms(node):
     if not isinstance(node, NODES):
         yield f"L6 or L7 {type(node).__name__}"
@@ -90,7 +100,7 @@ def faults_of_forms(node):
         yield "L2 an import from outside the package"
     if isinstance(node, (ast.For, ast.While)) and node.orelse or isinstance(node, ast.Try) and node.finalbody:
         yield "L6 an else behind a loop, or a finally"
-    if isinstance(node, ast.Assign) and len(node.targets) > 1:
+    if isinstance(node, ast.Assign) and (len(node.targets) > 1 or isinstance(node.targets[0], (ast.Tuple, ast.List))):
         yield "L6 more than one target"
     if isinstance(node, ast.ListComp) and (len(node.generators) > 1 or len(node.generators[0].ifs) > 1):
         yield "L7 a comprehension with more than one for or if"
@@ -100,19 +110,46 @@ def faults_of_forms(node):
     if isinstance(node, ast.Compare) and any(isinstance(op, (ast.Is, ast.IsNot)) for op in node.ops):
         if not all(isinstance(side, ast.Constant) and side.value in (None, True, False) for side in node.comparators):
             yield "L20 is beside something else than None, True, False"
-    if isinstance(node, ast.Call) and isinstance(node.func, ast.Attribute) and node.func.attr not in METHODS:
+    if isinstance(node, ast.ExceptHandler):
+        taken = node.type.elts if isinstance(node.type, ast.Tuple) else [node.type]
+        if any(not isinstance(name, ast.Name) or name.id in ("Exception", "TypeError") for name in taken):
+            yield "L19 an except of no named class, of Exception or of TypeError"
+    if isinstance(node, ast.Constant) and isinstance(node.value, str) and "%" in node.value:
+        yield "L27 a per cent sign within a text"
+
+
+def faults_of_calls(node, own):
+    if isinstance(node, ast.Call) and isinstance(node.func, ast.Attribute) and node.func.attr not in METHODS | own:
         yield f"L25 the method {node.func.attr}"
 
 
-def faults_of_tree(tree):
+def faults_of_classes(node):
+    if isinstance(node, ast.ClassDef):
+        names = [part.name for part in node.body if isinstance(part, ast.FunctionDef)]
+        if len(names) != len(set(names)):
+            yield "L18 a method that stands twice"
+        if any(not isinstance(part, (ast.FunctionDef, ast.Pass)) for part in node.body):
+            yield "L5 something else than methods in a class"
+    if isinstance(node, ast.FunctionDef) and node.name == "__init__":
+        if any(isinstance(part, ast.Return) and part.value is not None for part in ast.walk(node)):
+            yield "L28 an __init__ that gives back something"
+
+
+def faults_of_tree(tree, own=frozenset()):
     methods = [part for node in ast.walk(tree) if isinstance(node, ast.ClassDef) for part in node.body]
     for node in ast.walk(tree):
-        for fault in list(faults_of_forms(node)) + list(faults_of_names(node, methods)):
+        for fault in (list(faults_of_forms(node)) + list(faults_of_calls(node, own)) + list(faults_of_classes(node))
+                      + list(faults_of_names(node, methods))):
             yield getattr(node, "lineno", 0), fault
     tops = [name for node in tree.body for name in bound_names(node)]
     tops += [target.id for node in tree.body if isinstance(node, ast.Assign) for target in node.targets]
     if len(tops) != len(set(tops)):
         yield 0, "L15 a name bound twice at the file's top"
+    taken = {node.name for node in tree.body if isinstance(node, ast.ClassDef)}
+    taken |= {name.name for node in tree.body if isinstance(node, ast.ImportFrom) for name in node.names}
+    for node in ast.walk(tree):
+        if isinstance(node, (ast.arg, ast.Name)) and taken & set(bound_names(node)):
+            yield node.lineno, "L15 a parameter or local called like a class or an import"
 
 
 class Language(unittest.TestCase):
@@ -125,17 +162,32 @@ class Language(unittest.TestCase):
             self.assertFalse(name != "__init__.py" and hasattr(builtins, name[:-3]), name)
 
     def test_no_file_leaves_the_language(self):
+        texts = {path.name: path.read_text(encoding="utf-8") for path in sources()}
+        own = own_methods([ast.parse(text) for text in texts.values()])
         faults = []
-        for path in sources():
-            text = path.read_text(encoding="utf-8")
-            for line, fault in list(faults_of_text(text)) + list(faults_of_tree(ast.parse(text))):
-                faults.append(f"{path.name}:{line}: {fault}")
+        for name, text in texts.items():
+            for line, fault in list(faults_of_text(text)) + list(faults_of_tree(ast.parse(text), own)):
+                faults.append(f"{name}:{line}: {fault}")
         self.assertEqual(faults, [])
 
+    def test_no_name_is_both_a_method_and_a_value(self):
+        trees = [ast.parse(path.read_text(encoding="utf-8")) for path in sources()]
+        self.assertEqual(own_methods(trees) & own_values(trees), set())
+        own = (own_methods(trees) | own_values(trees)) - SPECIAL_METHODS
+        for kind in (str, int, list, tuple, dict, set, bytes):
+            self.assertEqual(own & set(dir(kind)), set(), kind)
+
     def test_faults_are_seen(self):
-        wrong = ["x = 1 / 2", "x = 1.5", "import os", "from os import path", "x = {1, 2}", "x = [y for z in a for y in z]",
-                 "def f(*a):\n    pass", "def f(a):\n    a.sort()", "a = b = 1", "a = 1\na = 2", "def f(min):\n    pass",
-                 "with a:\n    pass", "x = _y = 2", "def f(a):\n    return a is 3", "x = open(3)", "_x = 1"]
+        wrong = ["x = 1 / 2", "x = 1.5", "import os", "from os import path", "x = {1, 2}",
+                 "x = [y for z in a for y in z]",
+                 "def f(*a):\n    pass", "def f(a):\n    a.sort()", "a = b = 1", "a = 1\na = 2",
+                 "def f(min):\n    pass",
+                 "with a:\n    pass", "x = _y = 2", "def f(a):\n    b, c = a", "x = 'a%b'",
+                 "def f(a):\n    try:\n        a()\n    except Exception:\n        pass", "class A:\n    x = 1",
+                 "class A:\n    def f(self):\n        pass\n    def f(self):\n        pass",
+                 "class A:\n    def __init__(self):\n        return None", "class A:\n    pass\ndef f(A):\n    pass",
+                 "from shapethin.rows import row_of\ndef f(a):\n    row_of = a", "def f(a):\n    return a is 3",
+                 "x = open(3)", "_x = 1"]
         for text in wrong:
             with self.subTest(text=text):
                 self.assertNotEqual(list(faults_of_tree(ast.parse(text))), [])

@@ -1,61 +1,14 @@
 import itertools
 import unittest
 
-from shapethin.errors import NoBack, NoForm, NoName, NoRow, NoText, ShapeError, TooGreat, TooMany
+from helper import FAR, PictureCase, all_small_pictures, plain_picture
+from shapethin.errors import TooGreat
 from shapethin.pictures import (box_of, cells_of, common, count_cells, either, has_cell, join, less, lies_in, mirrored,
                                 moved, picture_of, stretches_of, turned, turned_about)
 
-FAR = 10 ** 60 - 1  # the greatest number of sixty figures
 CORNER = ((-1, ((0, 2), (4, 4))), (3, ((-5, -5),)))
 LONG = ((-FAR, ((-FAR, 7),)), (FAR, ((0, 0), (2, FAR))))
 SAMPLES = [(), ((0, ((0, 0),)),), CORNER, LONG]
-
-
-def cells(picture):
-    return {(x, y) for y, row in picture for a, b in row for x in range(a, b + 1)}
-
-
-def plain_picture(some):
-    """The picture of a set of cells, made cell by cell."""
-    rows = []
-    for y in sorted({y for x, y in some}):
-        row = []
-        for x in sorted(x for x, that in some if that == y):
-            if row and row[-1][1] == x - 1:
-                row[-1] = (row[-1][0], x)
-            else:
-                row.append((x, x))
-        rows.append((y, tuple(row)))
-    return tuple(rows)
-
-
-def all_small_pictures(columns, rows):
-    """Every picture with cells in these columns and rows alone, with its cells."""
-    floor = [(x, y) for y in rows for x in columns]
-    for bits in itertools.product((False, True), repeat=len(floor)):
-        some = {cell for cell, is_in in zip(floor, bits) if is_in}
-        yield plain_picture(some), some
-
-
-class PictureCase(unittest.TestCase):
-    def assert_picture(self, picture):
-        self.assertIs(type(picture), tuple)
-        for pair in picture:
-            self.assertIs(type(pair), tuple)
-            self.assertEqual(len(pair), 2)
-            self.assertIs(type(pair[1]), tuple)
-            self.assertNotEqual(pair[1], ())
-            for stretch in pair[1]:
-                self.assertIs(type(stretch), tuple)
-                self.assertLessEqual(stretch[0], stretch[1])
-            for ahead, behind in zip(pair[1], pair[1][1:]):
-                self.assertGreaterEqual(behind[0], ahead[1] + 2)
-        for ahead, behind in zip(picture, picture[1:]):
-            self.assertLess(ahead[0], behind[0])
-
-    def assert_same_picture(self, picture, expected):
-        self.assert_picture(picture)
-        self.assertEqual(picture, expected)
 
 
 class PictureOf(PictureCase):
@@ -280,12 +233,7 @@ class Placed(PictureCase):
 class CellByCell(PictureCase):
     def assert_too_great(self, picture):
         for ask in (cells_of, turned):
-            with self.assertRaises(TooGreat) as caught:
-                ask(picture)
-            self.assertIsInstance(caught.exception, ShapeError)
-            self.assertIsInstance(caught.exception, ValueError)
-            for other in (TooMany, NoText, NoForm, NoName, NoRow, NoBack):
-                self.assertNotIsInstance(caught.exception, other)
+            self.assert_refused(TooGreat, ask, picture)
 
     def test_cells_in_order(self):
         self.assertEqual(cells_of(()), [])
