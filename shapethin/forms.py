@@ -100,7 +100,9 @@ class Form:
         return self.greater(ONE_CELL)
 
     def greater(self, picture):
-        for blocks in self.parts:
+        # In any order the parts do the same. In a sum a lone block stands first: smaller, that leaves less to the
+        # parts behind it; greater, it goes last, so that its many rows are not yet there for the others.
+        for blocks in reversed(self.parts):
             picture = greater_by_part(picture, blocks)
         return picture
 
