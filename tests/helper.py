@@ -1,5 +1,6 @@
 """What the tests of pictures share."""
 
+import functools
 import itertools
 import unittest
 
@@ -35,6 +36,66 @@ def all_small_pictures(columns, rows):
         yield plain_picture(some), some
 
 
+def four_of(x, y):
+    return [(x, y - 1), (x - 1, y), (x, y + 1), (x + 1, y)]
+
+
+def eight_of(x, y):
+    return four_of(x, y) + [(x - 1, y - 1), (x - 1, y + 1), (x + 1, y + 1), (x + 1, y - 1)]
+
+
+def cells_within(stretch):
+    y, a, b = stretch[:3]
+    return {(x, y) for x in range(a, b + 1)}
+
+
+@functools.lru_cache(maxsize=None)
+def cells_touch(one, other, neighbours_of):
+    return any(cell in cells_within(other) for x, y in cells_within(one) for cell in neighbours_of(x, y))
+
+
+def plain_classes(stretches, neighbours_of):
+    """The pieces or holes, each walked from its first stretch on just as the document tells it."""
+    told = []
+    left = sorted(stretches)
+    while left:
+        listed = [left.pop(0)]
+        places = [None]
+        for place, this in enumerate(listed):
+            for stretch in [stretch for stretch in left if cells_touch(this, stretch, neighbours_of)]:
+                left.remove(stretch)
+                listed.append(stretch)
+                places.append(place)
+        told.append([stretch + (place,) for stretch, place in zip(listed, places)])
+    return told
+
+
+def plain_components(some, neighbours_of):
+    """The sets into which a set of cells falls, flooded cell by cell; by their least cells, in the order of cells."""
+    left = set(some)
+    components = []
+    for cell in sorted(some, key=lambda cell: (cell[1], cell[0])):
+        if cell in left:
+            flooded = [cell]
+            left.remove(cell)
+            for x, y in flooded:
+                for beside in neighbours_of(x, y):
+                    if beside in left:
+                        left.remove(beside)
+                        flooded.append(beside)
+            components.append(set(flooded))
+    return components
+
+
+def widened(told, by, dx=0, dy=0):
+    """Pieces or holes as they are told where each cell is as many cells beside one another, all moved."""
+    return [[(y + dy, a * by + dx, b * by + by - 1 + dx, place) for y, a, b, place in one] for one in told]
+
+
+def widened_picture(picture, by, dx=0, dy=0):
+    return tuple((y + dy, tuple((a * by + dx, b * by + by - 1 + dx) for a, b in row)) for y, row in picture)
+
+
 class PictureCase(unittest.TestCase):
     def assert_picture(self, picture):
         self.assertIs(type(picture), tuple)
@@ -54,6 +115,28 @@ class PictureCase(unittest.TestCase):
     def assert_same_picture(self, picture, expected):
         self.assert_picture(picture)
         self.assertEqual(picture, expected)
+
+    def assert_classes(self, told, expected):
+        """Pieces or holes: a list of lists of tuples of four."""
+        self.assertIs(type(told), list)
+        for one in told:
+            self.assertIs(type(one), list)
+            for stretch in one:
+                self.assertIs(type(stretch), tuple)
+        self.assertEqual(told, expected)
+
+    def assert_own_lists(self, ask, picture):
+        """What is told is the asker's own, and so are the lists within it."""
+        first = ask(picture)
+        before = [list(one) for one in first]
+        self.assertNotEqual(before, [])
+        first[0].append("changed")
+        first[-1][0] = "changed"
+        first.append("changed")
+        second = ask(picture)
+        self.assertEqual(second, before)
+        second.clear()
+        self.assertEqual(ask(picture), before)
 
     def assert_refused(self, refusal, ask, *handed_in):
         with self.assertRaises(refusal) as caught:

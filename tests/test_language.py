@@ -152,6 +152,21 @@ def faults_of_tree(tree, own=frozenset()):
             yield node.lineno, "L15 a parameter or local called like a class or an import"
 
 
+def names_of_top(tree):
+    return {name for node in tree.body for name in bound_names(node)} | {
+        target.id for node in tree.body if isinstance(node, ast.Assign) for target in node.targets}
+
+
+def drawn_from(trees):
+    """For each file the files it draws from, in however many steps."""
+    steps = {name: {node.module.partition(".")[2] for node in tree.body if isinstance(node, ast.ImportFrom)}
+             for name, tree in trees.items()}
+    for repeated in trees:
+        for name, others in steps.items():
+            steps[name] = others.union(*[steps[other] for other in others])
+    return steps
+
+
 class Language(unittest.TestCase):
     def test_files(self):
         found = [path.name for path in PACKAGE.rglob("*") if path.is_file() and "__pycache__" not in path.parts]
@@ -177,6 +192,15 @@ class Language(unittest.TestCase):
         for kind in (str, int, list, tuple, dict, set, bytes):
             self.assertEqual(own & set(dir(kind)), set(), kind)
 
+    def test_names_are_drawn_from_the_file_that_defines_them_and_never_in_a_ring(self):
+        trees = {path.stem: ast.parse(path.read_text(encoding="utf-8")) for path in sources()}
+        for name, tree in trees.items():
+            for node in [node for node in tree.body if isinstance(node, ast.ImportFrom)]:
+                taken = {part.name for part in node.names}
+                self.assertLessEqual(taken, names_of_top(trees[node.module.partition(".")[2]]), name)
+        for name, others in drawn_from(trees).items():
+            self.assertNotIn(name, others)
+
     def test_faults_are_seen(self):
         wrong = ["x = 1 / 2", "x = 1.5", "import os", "from os import path", "x = {1, 2}",
                  "x = [y for z in a for y in z]",
@@ -191,6 +215,8 @@ class Language(unittest.TestCase):
         for text in wrong:
             with self.subTest(text=text):
                 self.assertNotEqual(list(faults_of_tree(ast.parse(text))), [])
+        ring = {"a": "from shapethin.b import f", "b": "from shapethin.c import f", "c": "from shapethin.a import f"}
+        self.assertIn("a", drawn_from({name: ast.parse(text) for name, text in ring.items()})["a"])
         for text in ["x = 'type'", "# an enum", "\tx = 1", "x = 1" + " " * 120, "# caf\u00e9", "my_dataclass_x = 1"]:
             with self.subTest(text=text):
                 self.assertNotEqual(list(faults_of_text(text)), [])
