@@ -2,12 +2,16 @@
 
 import functools
 import itertools
+import random
 import unittest
 
 from shapethin.errors import NoBack, NoForm, NoName, NoRow, NoText, ShapeError, TooGreat, TooMany
 
 FAR = 10 ** 60 - 1  # the greatest number of sixty figures
 REFUSALS = [TooGreat, TooMany, NoText, NoForm, NoName, NoRow, NoBack]
+
+# The eight in the order of the round, written out as the document lists them, with their worth.
+WORTH = {(0, -1): 1, (-1, -1): 2, (-1, 0): 4, (-1, 1): 8, (0, 1): 16, (1, 1): 32, (1, 0): 64, (1, -1): 128}
 
 
 def cells(picture):
@@ -34,6 +38,14 @@ def all_small_pictures(columns, rows):
     for bits in itertools.product((False, True), repeat=len(floor)):
         some = {cell for cell, is_in in zip(floor, bits) if is_in}
         yield plain_picture(some), some
+
+
+def patches(wide, high, many, shares=(0.3, 0.5, 0.7, 0.9)):
+    """Pictures that have each cell of a block by chance, but the same ones each time."""
+    chance = random.Random(27)
+    for number in range(many):
+        share = shares[number % len(shares)]
+        yield plain_picture({(x, y) for x in range(wide) for y in range(high) if chance.random() < share})
 
 
 def four_of(x, y):
@@ -85,6 +97,40 @@ def plain_components(some, neighbours_of):
                         flooded.append(beside)
             components.append(set(flooded))
     return components
+
+
+def left_out_with_an_end(some):
+    """What is left out, flooded cell by cell within a box that leaves a way round: all but the part without end."""
+    if not some:
+        return []
+    columns = range(min(x for x, y in some) - 1, max(x for x, y in some) + 2)
+    rows = range(min(y for x, y in some) - 1, max(y for x, y in some) + 2)
+    parts = plain_components(set(itertools.product(columns, rows)) - some, four_of)
+    return [plain_picture(part) for part in parts if (columns[0], rows[0]) not in part]
+
+
+def grown(some, form):
+    return {(x + dx, y + dy) for x, y in some for dx, dy in form}
+
+
+def shrunk(some, form):
+    first = min(form)
+    asked = [(x - first[0], y - first[1]) for x, y in some]
+    return {(x, y) for x, y in asked if all((x + dx, y + dy) in some for dx, dy in form)}
+
+
+def plain_around(some, x, y):
+    return sum(worth for (dx, dy), worth in WORTH.items() if (x + dx, y + dy) in some)
+
+
+def plain_turns(number):
+    is_in = [number // worth % 2 == 1 for worth in WORTH.values()]
+    counted = 0
+    for place, worth in enumerate(WORTH.values()):
+        if worth in (1, 4, 16, 64) and not is_in[place]:
+            two_next = [is_in[(place + 1) % 8], is_in[(place + 2) % 8]]
+            counted += 0 if two_next == [False, False] else 1
+    return counted
 
 
 def widened(told, by, dx=0, dy=0):

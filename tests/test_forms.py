@@ -1,7 +1,7 @@
 import itertools
 import unittest
 
-from helper import FAR, PictureCase, all_small_pictures, cells, plain_picture
+from helper import FAR, PictureCase, all_small_pictures, cells, grown, plain_picture, shrunk
 from shapethin.errors import NoForm
 from shapethin.forms import Box, Cross, Form, Shape, Sum
 from shapethin.pictures import join, lies_in, mirrored, moved, picture_of, stretches_of, turned_about
@@ -32,16 +32,6 @@ def small_forms():
     yield Sum(Box(1, 0, 0, 2), Cross(2)), grown({(x, y) for x in (-1, 0) for y in (0, 1, 2)}, cells(Cross(2).cells()))
     yield Sum(Shape(AWAY), Shape(AWAY)), grown(cells(AWAY), cells(AWAY))
     yield Sum(Cross(1), Shape(AWAY)), grown({(0, 0), (0, 1), (0, -1), (1, 0), (-1, 0)}, cells(AWAY))
-
-
-def grown(some, form):
-    return {(x + dx, y + dy) for x, y in some for dx, dy in form}
-
-
-def shrunk(some, form):
-    first = min(form)
-    asked = [(x - first[0], y - first[1]) for x, y in some]
-    return {(x, y) for x, y in asked if all((x + dx, y + dy) in some for dx, dy in form)}
 
 
 class Kinds(PictureCase):

@@ -1,8 +1,8 @@
 import itertools
 import unittest
 
-from helper import (FAR, PictureCase, all_small_pictures, cells, cells_within, four_of, plain_classes,
-                    plain_components, plain_picture, widened, widened_picture)
+from helper import (FAR, PictureCase, all_small_pictures, cells, cells_within, four_of, left_out_with_an_end,
+                    plain_classes, plain_picture, widened, widened_picture)
 from shapethin.drawings import draw, read_drawn
 from shapethin.holes import filled, gaps_of, holes
 from shapethin.measures import told_number
@@ -41,16 +41,6 @@ def plain_holes(some):
     known = some.union(*[cells_within(gap) for gap in gaps])
     is_open = {gap: any(cell not in known for x, y in cells_within(gap) for cell in four_of(x, y)) for gap in gaps}
     return [told for told in plain_classes(gaps, four_of) if not any(is_open[gap[:3]] for gap in told)]
-
-
-def left_out_with_an_end(some):
-    """What is left out, flooded cell by cell within a box that leaves a way round: all but the part without end."""
-    if not some:
-        return []
-    columns = range(min(x for x, y in some) - 1, max(x for x, y in some) + 2)
-    rows = range(min(y for x, y in some) - 1, max(y for x, y in some) + 2)
-    parts = plain_components(set(itertools.product(columns, rows)) - some, four_of)
-    return [plain_picture(part) for part in parts if (columns[0], rows[0]) not in part]
 
 
 def walled_pictures():

@@ -1,6 +1,6 @@
 import unittest
 
-from helper import FAR, PictureCase, all_small_pictures, plain_picture
+from helper import FAR, WORTH, PictureCase, all_small_pictures, plain_around, plain_picture, plain_turns
 from shapethin.drawings import read_drawn
 from shapethin.holes import holes
 from shapethin.measures import told_number
@@ -8,23 +8,7 @@ from shapethin.pictures import moved, picture_of
 from shapethin.pieces import pieces
 from shapethin.rounds import around, may_go, turns
 
-# The eight in the order of the round, written out as the document lists them, with their worth.
-WORTH = {(0, -1): 1, (-1, -1): 2, (-1, 0): 4, (-1, 1): 8, (0, 1): 16, (1, 1): 32, (1, 0): 64, (1, -1): 128}
 ALL_EIGHT = read_drawn(["###", "#.#", "###"], -1, -1)
-
-
-def plain_around(some, x, y):
-    return sum(worth for (dx, dy), worth in WORTH.items() if (x + dx, y + dy) in some)
-
-
-def plain_turns(number):
-    is_in = [number // worth % 2 == 1 for worth in WORTH.values()]
-    counted = 0
-    for place, worth in enumerate(WORTH.values()):
-        if worth in (1, 4, 16, 64) and not is_in[place]:
-            two_next = [is_in[(place + 1) % 8], is_in[(place + 2) % 8]]
-            counted += 0 if two_next == [False, False] else 1
-    return counted
 
 
 def round_of(number, with_middle=True):
