@@ -25,6 +25,11 @@ UNUSED_PARTS = ("dataclass", "overload", "contextmanager")
 UNUSED_NAMES = set("""register mro elements open input version_info with_traceback add_note chr format
     format_map sys os super print""".split())
 
+KEYWORDS = {"sorted": ("key", "reverse"), "min": ("key", "default"), "max": ("key", "default"), "sum": ("start",),
+            "enumerate": ("start",), "zip": ("strict",)}
+
+PLAIN = (ast.Constant, ast.Tuple, ast.List, ast.Dict, ast.UnaryOp, ast.USub, ast.Name, ast.expr_context)
+
 SPECIAL_METHODS = {"__init__", "__eq__", "__repr__", "__str__", "__len__"}
 
 NODES = (
@@ -141,6 +146,8 @@ def faults_of_tree(tree, own=frozenset()):
         for fault in (list(faults_of_forms(node)) + list(faults_of_calls(node, own)) + list(faults_of_classes(node))
                       + list(faults_of_names(node, methods))):
             yield getattr(node, "lineno", 0), fault
+    yield from faults_of_walks(tree)
+    yield from faults_of_top(tree)
     tops = [name for node in tree.body for name in bound_names(node)]
     tops += [target.id for node in tree.body if isinstance(node, ast.Assign) for target in node.targets]
     if len(tops) != len(set(tops)):
@@ -150,6 +157,77 @@ def faults_of_tree(tree, own=frozenset()):
     for node in ast.walk(tree):
         if isinstance(node, (ast.arg, ast.Name)) and taken & set(bound_names(node)):
             yield node.lineno, "L15 a parameter or local called like a class or an import"
+
+
+def is_call_of(node, names):
+    return isinstance(node, ast.Call) and isinstance(node.func, ast.Name) and node.func.id in names
+
+
+def is_first_in(node, above, names):
+    return is_call_of(above, names) and above.args[:1] == [node]
+
+
+def is_walked(node):
+    """Whether it is something that is to be walked on the spot."""
+    views = isinstance(node, ast.Call) and isinstance(node.func, ast.Attribute) and node.func.attr in (
+        "items", "keys", "values")
+    return views or is_call_of(node, ("zip", "enumerate", "reversed", "range"))
+
+
+def is_walked_at_once(node, above):
+    if isinstance(above, (ast.For, ast.comprehension)):
+        return above.iter is node
+    if is_call_of(above, ("min", "max")):
+        return above.args == [node]
+    of_written_text = isinstance(above, ast.Call) and isinstance(above.func, ast.Attribute) and (
+        above.func.attr == "join" and isinstance(above.func.value, ast.Constant))
+    return of_written_text or is_first_in(
+        node, above, ("list", "tuple", "dict", "sorted", "sum", "any", "all", "enumerate", "zip"))
+
+
+def is_set_on_the_spot(node, above, over):
+    while isinstance(above, ast.BinOp):
+        node, above = above, over[above]
+    return isinstance(above, ast.Compare) or is_first_in(node, above, ("sorted", "len")) and above.keywords == []
+
+
+def faults_of_walks(tree):
+    over = {part: node for node in ast.walk(tree) for part in ast.iter_child_nodes(node)}
+    for node in ast.walk(tree):
+        if is_walked(node) and not is_walked_at_once(node, over[node]):
+            yield node.lineno, "L23 something that is not walked on the spot"
+        if is_call_of(node, ("set", "frozenset")) and not is_set_on_the_spot(node, over[node], over):
+            yield node.lineno, "L24 a set that is kept or walked"
+        if isinstance(node, ast.Call) and node.keywords:
+            own = KEYWORDS.get(node.func.id, ()) if is_call_of(node, OWN_NAMES) else None
+            if isinstance(node.func, ast.Attribute) and node.func.attr in METHODS:
+                own = ()
+            if own is not None and any(keyword.arg not in own for keyword in node.keywords):
+                yield node.lineno, "L22 a keyword"
+
+
+def faults_of_top(tree):
+    functions = [node.name for node in tree.body if isinstance(node, ast.FunctionDef)]
+    over = {part: node for node in ast.walk(tree) for part in ast.iter_child_nodes(node)}
+    for top in [node for node in tree.body if isinstance(node, ast.Assign)]:
+        for node in ast.walk(top.value):
+            if isinstance(node, ast.Name) and node.id not in functions or not isinstance(node, PLAIN):
+                yield top.lineno, "L3 no plain value"
+        if isinstance(top.value, (ast.List, ast.Dict)):
+            for node in ast.walk(tree):
+                if isinstance(node, ast.Name) and node.id == top.targets[0].id and not is_only_read(node, over):
+                    yield node.lineno, "L15 a list or dict of the file's top that is not only read"
+
+
+def is_only_read(node, over):
+    above = over[node]
+    if isinstance(above, ast.Subscript):
+        return above.value is node and isinstance(above.ctx, ast.Load)
+    if isinstance(above, ast.Attribute):
+        return above.attr in ("get", "items", "keys", "values", "index", "count")
+    if isinstance(above, (ast.Compare, ast.For, ast.comprehension)):
+        return True
+    return isinstance(node.ctx, ast.Store) or is_call_of(above, ("len", "list", "dict", "sorted"))
 
 
 def names_of_top(tree):
@@ -211,7 +289,22 @@ class Language(unittest.TestCase):
                  "class A:\n    def f(self):\n        pass\n    def f(self):\n        pass",
                  "class A:\n    def __init__(self):\n        return None", "class A:\n    pass\ndef f(A):\n    pass",
                  "from shapethin.rows import row_of\ndef f(a):\n    row_of = a", "def f(a):\n    return a is 3",
-                 "x = open(3)", "_x = 1"]
+                 "x = open(3)", "_x = 1", "def f(a):\n    return range(a)", "def f(a):\n    b = zip(a, a)",
+                 "def f(a):\n    return list(reversed(range(a)))", "def f(a):\n    b = a.items()",
+                 "def f(a):\n    return set(a)", "def f(a):\n    for b in set(a):\n        pass",
+                 "def f(a):\n    return sorted(set(a), reverse=True)", "def f(a):\n    return len(list(set(a)))",
+                 "def f(a):\n    return a.split(sep=' ')", "def f(a):\n    return int(a, base=2)", "x = 1 + 2",
+                 "x = len",
+                 "x = (1, 2)\ny = (x, 3)", "x = [1]\ndef f(a):\n    x.append(a)", "x = {}\ndef f(a):\n    x[a] = 1",
+                 "x = [1]\ndef f(a):\n    return x"]
+        right = ["def f(a):\n    return [b for b in range(a)]", "def f(a):\n    return dict(enumerate(a, start=2))",
+                 "def f(a):\n    return sorted(set(a))", "def f(a, b):\n    return b in set(a)",
+                 "def f(a, b):\n    return len(set(a) | set(b))", "def f(a):\n    return ', '.join(a.keys())",
+                 "x = {'a': (1, -2)}\ndef f(a):\n    return x[a] if a in x else x.get(a)",
+                 "def g(a):\n    return a\nx = [g]\ndef f(a):\n    return x[0](a)"]
+        for text in right:
+            with self.subTest(text=text):
+                self.assertEqual(list(faults_of_tree(ast.parse(text))), [])
         for text in wrong:
             with self.subTest(text=text):
                 self.assertNotEqual(list(faults_of_tree(ast.parse(text))), [])
