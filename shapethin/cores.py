@@ -12,16 +12,28 @@ def fold(form, many):
     return folded
 
 
-def sieve(picture, form, most):
-    counts = []
-    # Smaller by the form many times is smaller by it so many fold: each step goes on from the one ahead.
+def taken_apart(picture, form, most):
+    # At most so many cores and, as the last of the list, what is left of the picture behind them.
+    layers = []
     left = picture
-    for many in range(most + 1):
-        counts.append(count_cells(fold(form, many).greater(left)))
-        if left == ():
-            break
-        left = form.smaller(left)
-    return counts
+    while left != () and len(layers) < most:
+        smaller = form.smaller(left)
+        layers.append(less(left, form.greater(smaller)))
+        left = smaller
+    return layers + [left]
+
+
+def sieve(picture, form, most):
+    layers = taken_apart(picture, form, most)
+    counts = []
+    opened = ()
+    # Opened k-fold, the picture has all that its layers from the k-th on are made greater to, each by its own fold.
+    # So from the last one on each step adds a layer, mostly a small one; to open the picture for each k takes longer.
+    for many in range(len(layers) - 1, -1, -1):
+        if layers[many] != ():
+            opened = join(opened, fold(form, many).greater(layers[many]))
+        counts.append(count_cells(opened))
+    return list(reversed(counts))
 
 
 def has_one_cell(form):
@@ -32,15 +44,10 @@ def has_one_cell(form):
 def cores(picture, form, most):
     if has_one_cell(form):
         raise NoForm("by a form of one cell a picture never ends")
-    told = []
-    left = picture
-    while left != ():
-        if len(told) == most:
-            raise TooMany("the picture has more cores than that")
-        smaller = form.smaller(left)
-        told.append(less(left, form.greater(smaller)))
-        left = smaller
-    return told
+    layers = taken_apart(picture, form, most)
+    if layers[-1] != ():
+        raise TooMany("the picture has more cores than that")
+    return layers[:-1]
 
 
 def joined_cores(some, form):
